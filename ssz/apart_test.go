@@ -79,7 +79,7 @@ func TestApartOfNothing(t *testing.T) {
 	}
 }
 
-// P4.3, P3: of all short strings over bytes that places are made of, just the Joins are taken.
+// P4.3, P3: of strings of up to 14 bytes whose places are small, of one byte each, just the Joins are taken.
 func TestApartAgainstAllJoins(t *testing.T) {
 	const longest = 14
 	joins := map[string]int{"": 0}
