@@ -79,19 +79,18 @@ func TestApartOfNothing(t *testing.T) {
 	}
 }
 
-// P4.3, P3: of strings of up to 14 bytes whose places are small, of one byte each, just the Joins are taken.
+// P4.3, P3: of strings of up to 14 bytes whose places are below 16, just the Joins are taken.
 func TestApartAgainstAllJoins(t *testing.T) {
 	const longest = 14
 	joins := map[string]int{"": 0}
 	for count := 1; 4*count <= longest; count++ {
 		addJoins(joins, nil, count, longest-4*count)
 	}
-	heads := []byte{0, 1, 3, 4, 5, 7, 8, 9, 10, 11, 12, 13, 14, 15}
 	var b [longest]byte
 	for length := range longest + 1 {
-		for _, first := range heads {
-			for _, second := range heads {
-				for _, third := range heads {
+		for first := range byte(16) {
+			for second := range byte(16) {
+				for third := range byte(16) {
 					clear(b[:])
 					b[0], b[4], b[8] = first, second, third
 					checkApart(t, joins, b[:length])
